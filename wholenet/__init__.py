@@ -1,0 +1,1 @@
+"""Small nets trained and decided in whole numbers."""
