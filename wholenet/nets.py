@@ -1,7 +1,7 @@
 """Nets: what their layers give, and which things are nets."""
 
 from wholenet.errors import BadNet
-from wholenet.numbers import MOST_SIGNAL, MOST_WEIGHT, UNIT, clamped, dot, is_from, is_whole, rounded
+from wholenet.numbers import MOST_SIGNAL, MOST_WEIGHT, UNIT, are_within, clamped, dot, is_from, is_whole, rounded
 
 MOST_INPUTS = 16
 MOST_LAYERS = 12
@@ -161,18 +161,13 @@ def length_of(net):
     return last_length(net[2], net[1])
 
 
-def is_row(thing, length):
-    """Tells if this is a tuple of that many weights or biases."""
-    if not isinstance(thing, tuple) or len(thing) != length:
-        return False
-    return all(is_from(number, -MOST_WEIGHT, MOST_WEIGHT) for number in thing)
-
-
 def are_rows(rows, biases, length, most):
     """Tells if these are 1 to most rows of that length, and as many biases."""
     if not isinstance(rows, tuple) or not 1 <= len(rows) <= most:
         return False
-    return is_row(biases, len(rows)) and all(is_row(row, length) for row in rows)
+    if not are_within(biases, len(rows), MOST_WEIGHT):
+        return False
+    return all(are_within(row, length, MOST_WEIGHT) for row in rows)
 
 
 def is_dense(layer, n):

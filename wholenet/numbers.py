@@ -17,6 +17,21 @@ def is_from(thing, low, high):
     return is_whole(thing) and low <= thing <= high
 
 
+def are_within(thing, count, most):
+    """Tells if this is a tuple of so many integers, all within most."""
+    if not isinstance(thing, tuple) or len(thing) != count:
+        return False
+    return all(is_from(number, -most, most) for number in thing)
+
+
+def unit_power(power):
+    """UNIT to the power."""
+    product = 1
+    for _ in range(power):
+        product = product * UNIT
+    return product
+
+
 def rounded(a, b):
     """The integer nearest to a divided by b; of two as near the even one."""
     below, rest = divmod(a, b)
