@@ -1,7 +1,9 @@
-"""Random nets and a few ways to look at them, for the tests."""
+"""Random nets and boxes and a few ways to look at them, for the tests."""
+
+import itertools
 
 from wholenet.nets import gives
-from wholenet.numbers import UNIT
+from wholenet.numbers import MOST_SIGNAL, UNIT
 
 PLAIN_KINDS = ("dense", "conv", "relu", "clamp", "max", "mean")
 BRANCHED_KINDS = ("sum", "fork")
@@ -32,31 +34,51 @@ def some_layer(rng, n, kind, most=2 * UNIT):
     if kind == "mean":
         return ("mean", rng.choice([size for size in (1, 2, 4, 8, 16) if n % size == 0]))
     if kind == "sum":
-        first, length = some_layers(rng, n, PLAIN_KINDS, 2)
-        second, other = some_layers(rng, n, PLAIN_KINDS, 2)
+        first, length = some_layers(rng, n, PLAIN_KINDS, 2, most)
+        second, other = some_layers(rng, n, PLAIN_KINDS, 2, most)
         if other == length:
             return ("sum", first, second)
         return ("sum", first, second + (("dense", some_rows(rng, length, other, most), (7,) * length),))
     if kind == "fork":
-        first, length = some_layers(rng, n, PLAIN_KINDS, 2)
-        second, other = some_layers(rng, n, PLAIN_KINDS, 2)
+        first, length = some_layers(rng, n, PLAIN_KINDS, 2, most)
+        second, other = some_layers(rng, n, PLAIN_KINDS, 2, most)
         if length + other <= 16:
             return ("fork", first, second)
     return ("relu",)
 
 
-def some_layers(rng, n, kinds, most_layers):
+def some_layers(rng, n, kinds, most_layers, most=2 * UNIT):
     """A tuple of layers, and how many signals they give."""
     layers = []
     for _ in range(rng.randint(0, most_layers)):
-        layers.append(some_layer(rng, n, rng.choice(kinds)))
+        layers.append(some_layer(rng, n, rng.choice(kinds), most))
         n = gives(layers[-1], n)
     return tuple(layers), n
 
 
-def some_net(rng, kinds=PLAIN_KINDS + BRANCHED_KINDS):
+def some_net(rng, kinds=PLAIN_KINDS + BRANCHED_KINDS, most=2 * UNIT):
     inputs = rng.randint(1, 6)
-    return ("net", inputs, some_layers(rng, inputs, kinds, 4)[0])
+    return ("net", inputs, some_layers(rng, inputs, kinds, 4, most)[0])
+
+
+def some_box(rng, inputs, most=8 * UNIT, most_points=64):
+    """A box of few points: most of its sides are short, and their places are often around 0 or at the ends."""
+    box = []
+    points = 1
+    for _ in range(inputs):
+        longest = most_points // points
+        length = rng.choice((1, rng.randint(1, min(3, longest)), rng.randint(1, min(9, longest)), longest))
+        points *= length
+        low = rng.choice((rng.randint(-most, most), rng.randint(-9, 3), most))
+        low = max(-MOST_SIGNAL, min(MOST_SIGNAL - length + 1, low))
+        box.append((low, low + length - 1))
+    rng.shuffle(box)
+    return tuple(box)
+
+
+def all_points(box):
+    """The list of the points of a box."""
+    return list(itertools.product(*[range(low, high + 1) for low, high in box]))
 
 
 def some_inputs(rng, net, most=8 * UNIT):

@@ -20,6 +20,9 @@ FUNCTIONS = {
     "losses": ("loss_of(loss, y, target)",),
     "training": ("no_speeds(net)", "is_example(net, example)", "batch_gradients(net, examples, loss, batch)",
                  "trained(net, speeds, gradients, count, rate, drag, frozen)"),
+    "ranges": ("ranges_of(layers, ranges)",),
+    "lines": ("line_back(layers, ranges, line, choices)", "crossing(layers, ranges)"),
+    "judge": ("parts_of(net, demand)", "meets(net, inputs, demand)", "judge(net, box, demand, paper)"),
 }
 
 

@@ -1,6 +1,6 @@
 """Gradients and tangents: pairs of a power and numbers, each standing for itself divided by UNIT to the power."""
 
-from wholenet.nets import last_length, last_row, places, rows_of, weighed, windows
+from wholenet.nets import cells, last_length, last_row, rows_of, weighed, windows
 from wholenet.numbers import MOST_SIGNAL, UNIT, dot, unit_power, within
 
 
@@ -20,14 +20,6 @@ def added(one, other):
     """The sum of two pairs, at the greater power."""
     (power, numbers), (_, others) = aligned(one, other)
     return power, tuple([number + more for number, more in zip(numbers, others)])
-
-
-def cells(layer, n):
-    """A pair for each signal of a dense or conv that takes n signals: the index of its row and its place."""
-    many = len(layer[1])
-    if layer[0] == "dense":
-        return [(row, 0) for row in range(many)]
-    return [(row, place) for row in range(many) for place in places(len(layer[1][0]), layer[3], n)]
 
 
 def let_weighed(layer, x, numbers):

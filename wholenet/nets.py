@@ -28,6 +28,14 @@ def windows(x, size):
     return [x[at:at + size] for at in range(0, len(x), size)]
 
 
+def cells(layer, n):
+    """A pair for each signal of a dense or conv that takes n signals: the index of its row and its place."""
+    many = len(layer[1])
+    if layer[0] == "dense":
+        return [(row, 0) for row in range(many)]
+    return [(row, place) for row in range(many) for place in places(len(layer[1][0]), layer[3], n)]
+
+
 def weighed(row, bias, x):
     """What a row and its bias make of the signals x, ahead of the clamping."""
     return rounded(dot(row, x), UNIT) + bias
