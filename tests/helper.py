@@ -2,7 +2,7 @@
 
 import itertools
 
-from wholenet.nets import gives
+from wholenet.nets import gives, length_of
 from wholenet.numbers import MOST_SIGNAL, UNIT
 
 PLAIN_KINDS = ("dense", "conv", "relu", "clamp", "max", "mean")
@@ -131,3 +131,35 @@ def with_weights(layers, numbers):
             layer = (layer[0], with_weights(layer[1], numbers), with_weights(layer[2], numbers))
         found.append(layer)
     return tuple(found)
+
+
+def some_entry(rng, net, examples, most=8 * UNIT):
+    """An entry that can be applied behind these examples."""
+    kind = rng.choice(("data", "step", "step", "step", "freeze", "thaw", "check"))
+    loss = rng.choice(("squares", "margins"))
+    fit = [at for at, example in enumerate(examples) if isinstance(example[1], tuple) == (loss == "squares")]
+    if kind == "step" and fit:
+        batch = tuple(rng.choice(fit) for _ in range(rng.randint(1, 4)))
+        return ("step", loss, batch, rng.choice((0, 1, 9, UNIT // 8, UNIT)), rng.choice((0, UNIT // 2, UNIT)))
+    if kind in ("freeze", "thaw") and net[2]:
+        return (kind, rng.randrange(len(net[2])))
+    if kind == "check":
+        return ("check",)
+    many = length_of(net)
+    told = []
+    for _ in range(rng.randint(0, 3)):
+        target = rng.choice((some_numbers(rng, many, most), rng.randrange(many)))
+        told.append((some_inputs(rng, net), target))
+    return ("data", tuple(told))
+
+
+def some_log(rng, many=8):
+    """A log of a random net with many entries."""
+    net = some_net(rng)
+    log = [("begin", net)]
+    examples = ()
+    while len(log) < many:
+        log.append(some_entry(rng, net, examples))
+        if log[-1][0] == "data":
+            examples += log[-1][1]
+    return tuple(log)

@@ -4,10 +4,15 @@ import importlib
 import inspect
 import unittest
 
+from wholenet.agree import agree, joined, prune
+from wholenet.decide import decide, radius
 from wholenet.gradients import net_back, net_gradients, net_tangent
 from wholenet.nets import signals
+from wholenet.ranges import ranges_of
+from wholenet.replay import compact, losses, replay
 from wholenet.texts import parse, shown
 from wholenet.training import batch_gradients, no_speeds, trained
+from wholenet.writing import mended, read_log, resume, write_log
 
 FUNCTIONS = {
     "numbers": ("rounded(a, b)", "clamped(x, most)", "within(x, most)", "dot(a, b)"),
@@ -23,6 +28,12 @@ FUNCTIONS = {
     "ranges": ("ranges_of(layers, ranges)",),
     "lines": ("line_back(layers, ranges, line, choices)", "crossing(layers, ranges)"),
     "judge": ("parts_of(net, demand)", "meets(net, inputs, demand)", "judge(net, box, demand, paper)"),
+    "replay": ("replay(log)", "first_state(entry, place)", "go_on(state, entries, place)", "is_state(thing)",
+               "compact(log)", "losses(log)", "audit(log, told)"),
+    "writing": ("write_entry(entry, state)", "write_log(log)", "read_log(numbers)", "mended(numbers)",
+                "resume(numbers)"),
+    "decide": ("decide(net, box, demand, fuel=1000)", "radius(net, inputs, demand, *, most, fuel=1000)"),
+    "agree": ("joined(first, second)", "agree(first, second, box, distance, fuel=1000)", "prune(net, box)"),
 }
 
 
@@ -62,6 +73,31 @@ class Kinds(unittest.TestCase):
         self.made_of_tuples(gradients)
         self.made_of_tuples(no_speeds(net))
         self.made_of_tuples(trained(net, no_speeds(net), gradients, 2, 4096, 10, (1,)))
+
+    def test_kinds_of_logs(self):
+        net = ("net", 2, (("dense", ((1, 2), (3, 4)), (5, 6)),))
+        log = (("begin", net), ("data", (((1, 2), (3, 4)),)), ("step", "squares", (0,), 4096, 9), ("freeze", 0), ("check",))
+        numbers = write_log(log)
+        self.assertIs(type(numbers), list)
+        self.made_of_tuples(tuple(numbers))
+        for thing in (replay(log), losses(log), compact(log), read_log(numbers), mended(numbers + [3]), resume(numbers)):
+            self.made_of_tuples(thing)
+
+    def test_kinds_of_answers(self):
+        net = ("net", 1, (("dense", ((4096,), (-4096,)), (-70, -90)), ("relu",), ("dense", ((4096, 4096),), (0,))))
+        box = ((-999, 999),)
+        for bound, word in ((0, "holds"), (1, "fails"), (-1, "holds")):
+            told = decide(net, box, ("least", (1,), bound))
+            self.assertEqual(told[0], word)
+            self.made_of_tuples(told)
+        self.made_of_tuples(decide(net, ((-69, 999),), ("least", (1,), 0)))
+        self.made_of_tuples(decide(net, box, ("least", (1,), 1), 1))
+        self.made_of_tuples(radius(net, (500,), ("least", (1,), 1), most=999))
+        self.made_of_tuples(joined(net, net))
+        self.made_of_tuples(agree(net, net, ((500, 510),), 0))
+        self.made_of_tuples(prune(net, ((500, 510),)))
+        self.assertIs(type(ranges_of(net[2], box)), list)
+        self.made_of_tuples(tuple(ranges_of(net[2], box)))
 
 
 if __name__ == "__main__":

@@ -55,7 +55,7 @@ def parts_of(net, demand):
 def meets_parts(net, inputs, parts):
     """Tells if the outputs at these inputs meet every part."""
     y = outputs(net, inputs)
-    return all([dot(factors, y) >= bound for factors, bound in parts])
+    return all(dot(factors, y) >= bound for factors, bound in parts)
 
 
 def meets(net, inputs, demand):
@@ -66,7 +66,7 @@ def meets(net, inputs, demand):
 def hold_by_ranges(net, box, parts):
     """Tells if every part holds on the box by ranges."""
     ranges = last_ranges(net[2], box)
-    return all([least(factors, ranges) >= bound for factors, bound in parts])
+    return all(least(factors, ranges) >= bound for factors, bound in parts)
 
 
 def holds_at(line, box, bound):
@@ -78,12 +78,15 @@ def holds_at(line, box, bound):
 def hold_by_lines(net, box, parts, choices):
     """Tells if every part holds on the box by lines with these choices."""
     steps = steps_of(net[2], box, choices)
-    return all([holds_at(through(steps, (1, factors, 0)), box, bound) for factors, bound in parts])
+    return all(holds_at(through(steps, (1, factors, 0)), box, bound) for factors, bound in parts)
 
 
-def hold_at_points(net, box, parts):
-    """Tells if every part holds at all points of a small box."""
-    return all([meets_parts(net, point, parts) for point in points_of(box)])
+def first_failing(net, points, parts):
+    """The first of the points at which some part is not met, () if there is none."""
+    for point in points:
+        if not meets_parts(net, point, parts):
+            return point
+    return ()
 
 
 def are_choices(net, box, thing):
@@ -106,7 +109,7 @@ def leaf_holds(net, box, parts, paper):
     if paper == ("plain",):
         return hold_by_ranges(net, box, parts)
     if paper == ("points",):
-        return many_points(box) <= MOST_POINTS and hold_at_points(net, box, parts)
+        return many_points(box) <= MOST_POINTS and len(first_failing(net, points_of(box), parts)) == 0
     if isinstance(paper, tuple) and len(paper) == 2 and paper[0] == "lines" and are_choices(net, box, paper[1]):
         return hold_by_lines(net, box, parts, list(paper[1]))
     return False
