@@ -79,7 +79,7 @@ def decided(net, box, parts, fuel):
             left = papers.pop()
             papers.append(("split", task[1], task[2], left, right))
             continue
-        if looked == fuel:
+        if looked >= fuel:
             return ("open",)
         looked += 1
         told = told_of(net, task[1], parts)
